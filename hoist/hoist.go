@@ -1,0 +1,77 @@
+// Package hoist: packages that need packages, laid into a tree: see DOC.md.
+package hoist
+
+import (
+	"hoist/api"
+	"hoist/ranges"
+	"hoist/versions"
+)
+
+// Site has a stock, needs, and a tree.
+type Site struct{}
+
+// Fits tells whether a version fits a range (P3).
+func Fits(rng string, version string) (bool, api.Errno) {
+	wanted, isRange := ranges.Parse(rng)
+	if !isRange {
+		return false, api.ErrRange
+	}
+	place, isVersion := versions.Parse(version)
+	if !isVersion {
+		return false, api.ErrVersion
+	}
+	return wanted.Fits(place), api.OK
+}
+
+// Meet tells whether some version fits two ranges (P4).
+func Meet(one string, other string) (bool, api.Errno) {
+	first, firstIsRange := ranges.Parse(one)
+	if !firstIsRange {
+		return false, api.ErrRange
+	}
+	second, secondIsRange := ranges.Parse(other)
+	if !secondIsRange {
+		return false, api.ErrRange
+	}
+	return ranges.Meet(first, second), api.OK
+}
+
+// Lowest tells the lowest version that fits a range (P4).
+func Lowest(rng string) (string, api.Errno) {
+	wanted, isRange := ranges.Parse(rng)
+	if !isRange {
+		return "", api.ErrRange
+	}
+	lowest, found := wanted.Lowest()
+	if !found {
+		return "", api.ErrNone
+	}
+	return lowest.Text(), api.OK
+}
+
+// New makes a site with a stock (P5).
+func New(stock string) (*Site, api.Errno) { return nil, api.OK }
+
+// Add gives the site a need (P6).
+func (s *Site) Add(need string) api.Errno { return api.OK }
+
+// Drop takes a need from the site (P7).
+func (s *Site) Drop(name string) api.Errno { return api.OK }
+
+// Update builds the tree anew (P7).
+func (s *Site) Update() api.Errno { return api.OK }
+
+// Needs tells the site's needs (P8).
+func (s *Site) Needs() string { return "" }
+
+// Tree tells the site's tree (P8).
+func (s *Site) Tree() string { return "" }
+
+// Look tells where a package finds another (P9).
+func (s *Site) Look(path string, name string) (string, api.Errno) { return "", api.OK }
+
+// Load makes a tree the site's (P10).
+func (s *Site) Load(tree string) api.Errno { return api.OK }
+
+// Slim takes away packages that can be spared (P11).
+func (s *Site) Slim() int { return 0 }
