@@ -3,12 +3,20 @@ package hoist
 
 import (
 	"hoist/api"
+	"hoist/building"
+	"hoist/needs"
 	"hoist/ranges"
+	"hoist/stocks"
+	"hoist/trees"
 	"hoist/versions"
 )
 
 // Site has a stock, needs, and a tree.
-type Site struct{}
+type Site struct {
+	stock stocks.Stock
+	needs []needs.Need // by rising names
+	tree  trees.Tree
+}
 
 // Fits tells whether a version fits a range (P3).
 func Fits(rng string, version string) (bool, api.Errno) {
@@ -50,22 +58,63 @@ func Lowest(rng string) (string, api.Errno) {
 }
 
 // New makes a site with a stock (P5).
-func New(stock string) (*Site, api.Errno) { return nil, api.OK }
+func New(stock string) (*Site, api.Errno) {
+	known, e := stocks.Parse(stock)
+	if e != api.OK {
+		return nil, e
+	}
+	return &Site{stock: known}, api.OK
+}
 
 // Add gives the site a need (P6).
-func (s *Site) Add(need string) api.Errno { return api.OK }
+func (s *Site) Add(need string) api.Errno {
+	added, isNeed := needs.Parse(need)
+	if !isNeed {
+		return api.ErrText
+	}
+	others := needs.Without(s.needs, added.Name)
+	if len(others) >= api.MaxNeeds {
+		return api.ErrMany
+	}
+	wanted := needs.With(others, added)
+	favoured := s.tree
+	return s.build(wanted, favoured)
+}
 
 // Drop takes a need from the site (P7).
-func (s *Site) Drop(name string) api.Errno { return api.OK }
+func (s *Site) Drop(name string) api.Errno {
+	if !needs.Has(s.needs, name) {
+		return api.ErrNone
+	}
+	wanted := needs.Without(s.needs, name)
+	favoured := s.tree
+	return s.build(wanted, favoured)
+}
 
 // Update builds the tree anew (P7).
-func (s *Site) Update() api.Errno { return api.OK }
+func (s *Site) Update() api.Errno {
+	wanted := s.needs
+	noneFavoured := trees.Tree{}
+	return s.build(wanted, noneFavoured)
+}
+
+// build gives the site these needs and the tree that is built for them, if
+// that goes well.
+func (s *Site) build(wanted []needs.Need, favoured trees.Tree) api.Errno {
+	built, e := building.Build(s.stock, wanted, favoured)
+	if e != api.OK {
+		return e
+	}
+	s.needs = wanted
+	s.tree = built
+	return api.OK
+}
 
 // Needs tells the site's needs (P8).
-func (s *Site) Needs() string { return "" }
+func (s *Site) Needs() string { return needs.Text(s.needs) }
 
 // Tree tells the site's tree (P8).
-func (s *Site) Tree() string { return "" }
+func (s *Site) Tree() string { return s.tree.Text() }
 
 // Look tells where a package finds another (P9).
 func (s *Site) Look(path string, name string) (string, api.Errno) { return "", api.OK }

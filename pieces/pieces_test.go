@@ -25,3 +25,40 @@ func TestSplit(t *testing.T) {
 		}
 	}
 }
+
+func TestCut(t *testing.T) {
+	for _, c := range []struct {
+		text, ahead, behind string
+		found               bool
+	}{
+		{"", "", "", false},
+		{"ab", "ab", "", false},
+		{"a@b", "a", "b", true},
+		{"@", "", "", true},
+		{"a@", "a", "", true},
+		{"@b", "", "b", true},
+		{"a@b@c", "a", "b@c", true},
+		{"@@", "", "@", true},
+	} {
+		ahead, behind, found := Cut(c.text, '@')
+		if ahead != c.ahead || behind != c.behind || found != c.found {
+			t.Errorf("Cut(%q) = %q, %q, %v", c.text, ahead, behind, found)
+		}
+	}
+}
+
+func TestJoin(t *testing.T) {
+	for _, c := range []struct {
+		list []string
+		want string
+	}{
+		{nil, ""},
+		{[]string{"a"}, "a"},
+		{[]string{"a", "bc", "d"}, "a, bc, d"},
+		{[]string{"", ""}, ", "},
+	} {
+		if got := Join(c.list, ", "); got != c.want {
+			t.Errorf("Join(%q) = %q, want %q", c.list, got, c.want)
+		}
+	}
+}
