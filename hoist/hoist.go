@@ -4,7 +4,9 @@ package hoist
 import (
 	"hoist/api"
 	"hoist/building"
+	"hoist/names"
 	"hoist/needs"
+	"hoist/paths"
 	"hoist/ranges"
 	"hoist/stocks"
 	"hoist/trees"
@@ -117,10 +119,35 @@ func (s *Site) Needs() string { return needs.Text(s.needs) }
 func (s *Site) Tree() string { return s.tree.Text() }
 
 // Look tells where a package finds another (P9).
-func (s *Site) Look(path string, name string) (string, api.Errno) { return "", api.OK }
+func (s *Site) Look(path string, name string) (string, api.Errno) {
+	if path != paths.Outermost && !s.tree.HasAt(path) {
+		return "", api.ErrPath
+	}
+	if !names.IsName(name) {
+		return "", api.ErrName
+	}
+	p, found := s.tree.Find(path, name)
+	if !found {
+		return "", api.ErrNone
+	}
+	return p.Path, api.OK
+}
 
 // Load makes a tree the site's (P10).
-func (s *Site) Load(tree string) api.Errno { return api.OK }
+func (s *Site) Load(tree string) api.Errno {
+	loaded, e := trees.Parse(tree, s.stock)
+	if e != api.OK {
+		return e
+	}
+	if !loaded.IsSound(s.needs) {
+		return api.ErrTree
+	}
+	if !loaded.AllInUse(s.needs) {
+		return api.ErrTree
+	}
+	s.tree = loaded
+	return api.OK
+}
 
 // Slim takes away packages that can be spared (P11).
 func (s *Site) Slim() int { return 0 }

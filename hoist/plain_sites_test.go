@@ -286,6 +286,14 @@ func someStock(random *rand.Rand, names []string) plainStock {
 	return stock
 }
 
+// someSite tells a new site and its plain twin, and names that their stock has.
+func someSite(t *testing.T, random *rand.Rand) (*Site, *plainSite, []string) {
+	t.Helper()
+	names := someNames[:1+random.Intn(len(someNames))]
+	stock := someStock(random, names)
+	return newSite(t, stock.String()), &plainSite{stock: stock}, names
+}
+
 // someCall makes one call of both, and tells what it was and what they
 // answered.
 func someCall(random *rand.Rand, site *Site, plain *plainSite, names []string) (string, api.Errno, api.Errno) {
@@ -300,21 +308,24 @@ func someCall(random *rand.Rand, site *Site, plain *plainSite, names []string) (
 	return "Update", site.Update(), plain.update()
 }
 
-func checkSound(t *testing.T, plain *plainSite) {
-	t.Helper()
+// unmet tells the needs that are not met in a tree.
+func (s *plainSite) unmet(tree plainTree) []plainAsked {
 	all := []plainAsked{}
-	for _, n := range plain.needs {
+	for _, n := range s.needs {
 		all = append(all, plainAsked{"", n})
 	}
-	for path := range plain.tree {
-		for _, n := range plain.needsOf(plain.tree, path) {
+	for path := range tree {
+		for _, n := range s.needsOf(tree, path) {
 			all = append(all, plainAsked{path, n})
 		}
 	}
-	for _, a := range all {
-		if !plain.tree.meets(a.path, a.need) {
-			t.Errorf("P6, P7: %s is not sound: %q does not find %s", plain.tree, a.path, a.need)
-		}
+	return slices.DeleteFunc(all, func(a plainAsked) bool { return tree.meets(a.path, a.need) })
+}
+
+func checkSound(t *testing.T, plain *plainSite) {
+	t.Helper()
+	for _, a := range plain.unmet(plain.tree) {
+		t.Errorf("P6, P7: %s is not sound: %q does not find %s", plain.tree, a.path, a.need)
 	}
 }
 
@@ -323,20 +334,14 @@ func TestP6ToP8AsTheDocumentSays(t *testing.T) {
 	seen := map[api.Errno]int{}
 	deepest := 0
 	for range 2500 {
-		names := someNames[:1+random.Intn(len(someNames))]
-		stock := someStock(random, names)
-		site, e := New(stock.String())
-		if e != api.OK {
-			t.Fatalf("P5: New(%q) is %d", stock, e)
-		}
-		plain := &plainSite{stock: stock}
+		site, plain, names := someSite(t, random)
 		calls := ""
 		for range 16 {
 			call, got, want := someCall(random, site, plain, names)
 			calls += call + "; "
 			tree, needs := plain.tree.String(), plainText(byRisingNames(plain.needs))
 			if got != want || site.Tree() != tree || site.Needs() != needs {
-				t.Fatalf("P6 to P8: with %s, behind %s:\n%d, %q, %q, want\n%d, %q, %q", stock, calls, got, site.Tree(), site.Needs(), want, tree, needs)
+				t.Fatalf("P6 to P8: with %s, behind %s:\n%d, %q, %q, want\n%d, %q, %q", plain.stock, calls, got, site.Tree(), site.Needs(), want, tree, needs)
 			}
 			checkSound(t, plain)
 			seen[want]++

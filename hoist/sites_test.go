@@ -40,13 +40,16 @@ func checkSite(t *testing.T, site *Site, needs string, tree string) {
 	}
 }
 
-// makeCall makes a call of a site: +need for Add, -name for Drop, ! for Update.
+// makeCall makes a call of a site: +need for Add, -name for Drop, <tree for
+// Load, ! for Update.
 func makeCall(site *Site, call string) api.Errno {
 	switch call[0] {
 	case '+':
 		return site.Add(call[1:])
 	case '-':
 		return site.Drop(call[1:])
+	case '<':
+		return site.Load(call[1:])
 	}
 	return site.Update()
 }
@@ -58,7 +61,7 @@ func checkCalls(t *testing.T, stock string, calls string, needs string, tree str
 	site := newSite(t, stock)
 	for _, call := range strings.Fields(calls) {
 		if e := makeCall(site, call); e != api.OK {
-			t.Errorf("P6, P7: %q of %q is %d", call, calls, e)
+			t.Errorf("P6, P7, P10: %q of %q is %d", call, calls, e)
 		}
 	}
 	checkSite(t, site, needs, tree)
@@ -72,7 +75,7 @@ func checkRefused(t *testing.T, site *Site, call string, want api.Errno) {
 	needs := site.Needs()
 	tree := site.Tree()
 	if e := makeCall(site, call); e != want {
-		t.Errorf("P6, P7: %.80q is %d, want %d", call, e, want)
+		t.Errorf("P6, P7, P10: %.80q is %d, want %d", call, e, want)
 	}
 	checkSite(t, site, needs, tree)
 }
@@ -541,8 +544,8 @@ func TestP8PathsAreOrderedByteByByte(t *testing.T) {
 
 // P2: what other sites are asked, and what a site has refused, changes nothing.
 func TestP2SitesStandAlone(t *testing.T) {
-	calls := []string{"+b=1.0.0", "+b^1.0.0", "+c*", "-b", "!", "+b^2.0.0", "+a*", "-c", "!", "-b", "-a"}
-	refused := []string{"+x*", "+b^3.0.0", "+b", "-x", "-", "+d=2.0.0"}
+	calls := []string{"+b=1.0.0", "+b^1.0.0", "<b@1.4.0", "+c*", "-b", "<b@1.0.0;c@1.0.0;d@1.0.0", "!", "+b^2.0.0", "+a*", "-c", "!", "-b", "<a@1.0.0;a/b@1.0.0", "-a"}
+	refused := []string{"+x*", "+b^3.0.0", "+b", "-x", "-", "+d=2.0.0", "<x", "<b@2.0.0", "<c@1.0.0;d@1.0.0"}
 	lone := newSite(t, documentsStock)
 	busy := newSite(t, documentsStock)
 	for i, call := range calls {
@@ -552,7 +555,7 @@ func TestP2SitesStandAlone(t *testing.T) {
 		}
 		for _, wrong := range refused {
 			if e := makeCall(busy, wrong); e == api.OK {
-				t.Errorf("P6, P7: %q is not refused", wrong)
+				t.Errorf("P6, P7, P10: %q is not refused", wrong)
 			}
 		}
 		one, two := makeCall(lone, call), makeCall(busy, call)
@@ -610,6 +613,19 @@ func checkAnyCalls(t *testing.T, site *Site, text func(most int) string) {
 			checkSite(t, site, needs, tree)
 		} else if !strings.Contains(needs, name) {
 			t.Errorf("P7: of %q Drop(%q) took something", needs, name)
+		}
+		needs = site.Needs()
+		tree = site.Tree()
+		loaded := text(6)
+		if e := site.Load(loaded); e == api.OK {
+			checkSite(t, site, needs, loaded)
+		} else {
+			checkSite(t, site, needs, tree)
+		}
+		path, name := text(4), text(3)
+		found, e := site.Look(path, name)
+		if (found == "") != (e != api.OK) || !strings.HasSuffix(found, name) && e == api.OK {
+			t.Errorf("P9: of %q Look(%q, %q) is %q, %d", site.Tree(), path, name, found, e)
 		}
 	}
 }

@@ -1,6 +1,11 @@
 // Package paths: where packages lie.
 package paths
 
+import (
+	"hoist/names"
+	"hoist/pieces"
+)
+
 // Outermost is the outermost folder, and the path of the site.
 const Outermost = ""
 
@@ -20,4 +25,24 @@ func Folder(path string) string {
 		}
 	}
 	return Outermost
+}
+
+// Name tells the last name of a path.
+func Name(path string) string {
+	for i := len(path) - 1; i >= 0; i-- {
+		if path[i] == '/' {
+			return path[i+1:]
+		}
+	}
+	return path
+}
+
+// IsPath tells whether a text is the path of a package, in whatever tree.
+func IsPath(text string) bool {
+	for _, piece := range pieces.Split(text, '/') {
+		if !names.IsName(piece) {
+			return false
+		}
+	}
+	return true
 }

@@ -100,3 +100,13 @@ func (s Stock) Fitting(n needs.Need) []Entry {
 	}
 	return fitting
 }
+
+// Find tells the entry of a name and a version, and whether there is one.
+func (s Stock) Find(name string, version versions.Version) (Entry, bool) {
+	for _, entry := range s.entries {
+		if entry.Name == name && entry.Version == version {
+			return entry, true
+		}
+	}
+	return Entry{}, false
+}

@@ -6,6 +6,7 @@ import (
 
 	"hoist/api"
 	"hoist/needs"
+	"hoist/versions"
 )
 
 func fittingText(t *testing.T, stock string, need string) string {
@@ -36,6 +37,29 @@ func TestFitting(t *testing.T) {
 	}
 	if got := fittingText(t, "", "a*"); got != "" {
 		t.Errorf("the empty stock has %q", got)
+	}
+}
+
+func TestFind(t *testing.T) {
+	s, e := Parse("b@1.0.0;a@2.0.0:c*,b*;a@1.0.0:a=2.0.0;ab@1.0.0")
+	if e != api.OK {
+		t.Fatalf("Parse is %d", e)
+	}
+	for _, c := range []struct{ name, version, needs string }{
+		{"a", "1.0.0", "a=2.0.0"}, {"a", "2.0.0", "b*,c*"}, {"b", "1.0.0", ""}, {"ab", "1.0.0", ""},
+	} {
+		v, _ := versions.Parse(c.version)
+		entry, found := s.Find(c.name, v)
+		if !found || entry.Name != c.name || entry.Version != v || needs.Text(entry.Needs) != c.needs {
+			t.Errorf("for %s@%s there is %v, %v", c.name, c.version, entry, found)
+		}
+	}
+	for _, c := range []struct{ name, version string }{{"a", "3.0.0"}, {"b", "2.0.0"}, {"ab", "2.0.0"}, {"c", "1.0.0"}, {"", "1.0.0"}} {
+		v, _ := versions.Parse(c.version)
+		entry, found := s.Find(c.name, v)
+		if found || entry.Name != "" {
+			t.Errorf("for %s@%s there is %v, %v", c.name, c.version, entry, found)
+		}
 	}
 }
 

@@ -78,6 +78,28 @@ func (t Tree) Meets(path string, n needs.Need) bool {
 	return found && n.Range.Fits(p.Entry.Version)
 }
 
+// IsSound tells whether all needs are met, if these are the needs of the site.
+func (t Tree) IsSound(site []needs.Need) bool {
+	if !t.meetsAll(paths.Outermost, site) {
+		return false
+	}
+	for _, p := range t.packages {
+		if !t.meetsAll(p.Path, p.Entry.Needs) {
+			return false
+		}
+	}
+	return true
+}
+
+func (t Tree) meetsAll(path string, list []needs.Need) bool {
+	for _, n := range list {
+		if !t.Meets(path, n) {
+			return false
+		}
+	}
+	return true
+}
+
 // Has tells whether a package of a name has a version, wherever it lies.
 func (t Tree) Has(name string, version versions.Version) bool {
 	for _, p := range t.packages {
@@ -104,6 +126,13 @@ func (t Tree) InUse(site []needs.Need) Tree {
 		}
 	}
 	return used
+}
+
+// AllInUse tells whether all packages are in use, if these are the needs of the
+// site.
+func (t Tree) AllInUse(site []needs.Need) bool {
+	used := t.InUse(site)
+	return len(used.packages) == len(t.packages)
 }
 
 // HasAt tells whether there is a package at a path.

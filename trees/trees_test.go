@@ -118,7 +118,40 @@ func TestInUse(t *testing.T) {
 		if !ok {
 			t.Fatalf("%q is no needs", c.site)
 		}
-		checkText(t, tree.InUse(site), c.want)
+		used := tree.InUse(site)
+		checkText(t, used, c.want)
+		if tree.AllInUse(site) {
+			t.Errorf("for %q all are in use", c.site)
+		}
+		if !used.AllInUse(site) {
+			t.Errorf("for %q not all of those in use are in use", c.site)
+		}
 	}
 	checkText(t, tree.InUse(nil), "")
+	if tree.AllInUse(nil) || !(Tree{}).AllInUse(nil) {
+		t.Error("AllInUse is wrong for a site without needs")
+	}
+}
+
+func TestIsSound(t *testing.T) {
+	tree := treeOf(t, "a a@1.0.0:b=1.0.0", "a/b b@1.0.0:c*", "b b@2.0.0:a*,c*", "c c@1.0.0")
+	broken := treeOf(t, "a a@1.0.0:b=2.0.0", "a/b b@1.0.0:c*", "b b@2.0.0:a*,c*", "c c@1.0.0")
+	for _, c := range []struct {
+		site string
+		want bool
+	}{{"a*", true}, {"b=2.0.0", true}, {"a*,b*,c*", true}, {"b=1.0.0", false}, {"a*,d*", false}, {"a=2.0.0", false}} {
+		site, ok := needs.ParseList(c.site)
+		if !ok {
+			t.Fatalf("%q is no needs", c.site)
+		}
+		if got := tree.IsSound(site); got != c.want {
+			t.Errorf("for %q the tree is sound: %v", c.site, got)
+		}
+		if broken.IsSound(site) || (Tree{}).IsSound(site) {
+			t.Errorf("for %q what is not sound is sound", c.site)
+		}
+	}
+	if !tree.IsSound(nil) || broken.IsSound(nil) || !(Tree{}).IsSound(nil) {
+		t.Error("IsSound is wrong for a site without needs")
+	}
 }
