@@ -150,4 +150,9 @@ func (s *Site) Load(tree string) api.Errno {
 }
 
 // Slim takes away packages that can be spared (P11).
-func (s *Site) Slim() int { return 0 }
+func (s *Site) Slim() int {
+	before := s.tree.Count()
+	slim := s.tree.Slim(s.needs)
+	s.tree = slim
+	return before - slim.Count()
+}

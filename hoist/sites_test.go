@@ -41,7 +41,7 @@ func checkSite(t *testing.T, site *Site, needs string, tree string) {
 }
 
 // makeCall makes a call of a site: +need for Add, -name for Drop, <tree for
-// Load, ! for Update.
+// Load, _ for Slim, ! for Update.
 func makeCall(site *Site, call string) api.Errno {
 	switch call[0] {
 	case '+':
@@ -50,6 +50,9 @@ func makeCall(site *Site, call string) api.Errno {
 		return site.Drop(call[1:])
 	case '<':
 		return site.Load(call[1:])
+	case '_':
+		site.Slim()
+		return api.OK
 	}
 	return site.Update()
 }
@@ -544,7 +547,7 @@ func TestP8PathsAreOrderedByteByByte(t *testing.T) {
 
 // P2: what other sites are asked, and what a site has refused, changes nothing.
 func TestP2SitesStandAlone(t *testing.T) {
-	calls := []string{"+b=1.0.0", "+b^1.0.0", "<b@1.4.0", "+c*", "-b", "<b@1.0.0;c@1.0.0;d@1.0.0", "!", "+b^2.0.0", "+a*", "-c", "!", "-b", "<a@1.0.0;a/b@1.0.0", "-a"}
+	calls := []string{"+b=1.0.0", "+b^1.0.0", "<b@1.4.0", "+c*", "-b", "<b@1.0.0;c@1.0.0;d@1.0.0", "!", "+b^2.0.0", "+a*", "-c", "!", "-b", "<a@1.0.0;a/b@1.0.0", "_", "+b^1.0.0", "<a@1.0.0;a/b@1.4.0;b@1.0.0", "_", "-b", "-a", "_"}
 	refused := []string{"+x*", "+b^3.0.0", "+b", "-x", "-", "+d=2.0.0", "<x", "<b@2.0.0", "<c@1.0.0;d@1.0.0"}
 	lone := newSite(t, documentsStock)
 	busy := newSite(t, documentsStock)
@@ -626,6 +629,11 @@ func checkAnyCalls(t *testing.T, site *Site, text func(most int) string) {
 		found, e := site.Look(path, name)
 		if (found == "") != (e != api.OK) || !strings.HasSuffix(found, name) && e == api.OK {
 			t.Errorf("P9: of %q Look(%q, %q) is %q, %d", site.Tree(), path, name, found, e)
+		}
+		needs = site.Needs()
+		tree = site.Tree()
+		if lost := site.Slim(); lost != countOf(tree)-countOf(site.Tree()) || site.Needs() != needs {
+			t.Errorf("P11: of %q Slim() took %d, and left %q and %q", tree, lost, site.Tree(), site.Needs())
 		}
 	}
 }

@@ -37,6 +37,13 @@ func Name(path string) string {
 	return path
 }
 
+// IsUnder tells whether a package's path begins with that of another and a
+// slash.
+func IsUnder(path string, other string) bool {
+	beginning := other + "/"
+	return len(path) >= len(beginning) && path[:len(beginning)] == beginning
+}
+
 // IsPath tells whether a text is the path of a package, in whatever tree.
 func IsPath(text string) bool {
 	for _, piece := range pieces.Split(text, '/') {
